@@ -1,0 +1,1 @@
+"""Barredcrossings: in which order letters may be handed over."""

@@ -1,0 +1,177 @@
+"""The form of the package's files: what of shared/LANGUAGE.md a plain look at them can tell."""
+
+import ast
+import builtins
+import io
+import re
+import tokenize
+import unittest
+from pathlib import Path
+
+PACKAGE = Path(__file__).resolve().parent.parent / "barredcrossings"
+FILES = sorted(path for path in PACKAGE.rglob("*") if "__pycache__" not in path.parts and path.is_file())
+BUILTINS = set(
+    "len range enumerate zip min max sum abs sorted reversed int str bool bytes list tuple dict set frozenset "
+    "isinstance ord repr any all divmod pow iter next map getattr hasattr setattr super property staticmethod "
+    "classmethod Exception ValueError TypeError KeyError IndexError LookupError ZeroDivisionError ArithmeticError "
+    "OverflowError RuntimeError NotImplementedError AttributeError StopIteration NotImplemented".split()
+)
+LIBRARY = {
+    "heapq": {"heappush", "heappop", "heapify", "heapreplace", "heappushpop"},
+    "math": {"gcd", "lcm", "isqrt", "comb", "perm", "factorial"},
+    "itertools": {
+        "product", "combinations", "permutations", "chain", "accumulate", "pairwise", "islice", "zip_longest"},
+    "collections": {"defaultdict"},
+}
+BARRED_WORDS = set(
+    "type typing typing_extensions enum Enum IntEnum StrEnum Flag IntFlag Generic Protocol ABC ABCMeta namedtuple "
+    "NamedTuple TypedDict TYPE_CHECKING abstractmethod dataclass overload contextmanager".split()
+)
+BARRED_NAMES = set("register mro elements open input law version_info with_traceback add_note".split())
+BARRED_NODES = (
+    ast.Global, ast.AsyncFunctionDef, ast.AsyncFor, ast.AsyncWith, ast.Await, ast.Div, ast.MatMult,
+)
+METHODS = set(
+    "append clear copy count endswith extend find get index insert isalnum isalpha isdigit islower isspace isupper "
+    "items join keys ljust lower lstrip partition pop remove replace reverse rfind rjust rpartition rsplit rstrip "
+    "setdefault split splitlines startswith strip update upper values zfill bit_length sort add discard".split()
+)
+
+
+def trees():
+    for path in FILES:
+        yield path, ast.parse(path.read_text())
+
+
+def nodes(*kinds):
+    for path, tree in trees():
+        for node in ast.walk(tree):
+            if isinstance(node, kinds):
+                yield path, node
+
+
+def bound_names(tree):
+    """All names that a file gives a meaning to."""
+    for node in ast.walk(tree):
+        if isinstance(node, (ast.FunctionDef, ast.ClassDef)):
+            yield node.name
+        elif isinstance(node, ast.arg):
+            yield node.arg
+        elif isinstance(node, ast.Name) and isinstance(node.ctx, ast.Store):
+            yield node.id
+
+
+class Form(unittest.TestCase):
+    def test_files(self):
+        self.assertIn(PACKAGE / "__init__.py", FILES)
+        for path in FILES:
+            self.assertRegex(path.name, r"^([a-z][a-z0-9_]*|__init__|__main__)\.py$")
+            self.assertFalse(path.name.startswith("test"), path)
+            self.assertNotIn(path.stem, dir(builtins))
+
+    def test_lines_and_characters(self):
+        for path in FILES:
+            text = path.read_text()
+            self.assertRegex(text, r"^[ -~\n]*$", path)
+            self.assertTrue(text.endswith("\n"), path)
+            lines = text.splitlines()
+            self.assertLessEqual(len(lines), 399, path)
+            self.assertLessEqual(max(map(len, lines)), 120, path)
+
+    def test_functions_are_short_and_undecorated(self):
+        for path, node in nodes(ast.FunctionDef, ast.ClassDef):
+            self.assertEqual([ast.unparse(mark) for mark in node.decorator_list], [], (path, node.name))
+            if isinstance(node, ast.FunctionDef):
+                self.assertLessEqual(node.end_lineno - node.lineno + 1, 40, (path, node.name))
+            self.assertTrue(ast.get_docstring(node) or node.name.startswith("__"), (path, node.name))
+
+    def test_imports_name_the_file_that_defines_the_name(self):
+        for path, node in nodes(ast.Import):
+            self.fail((path, ast.unparse(node)))
+        for path, node in nodes(ast.ImportFrom):
+            self.assertEqual(node.level, 0, path)
+            for name in node.names:
+                self.assertIsNone(name.asname, path)
+                if node.module in LIBRARY:
+                    self.assertIn(name.name, LIBRARY[node.module])
+                else:
+                    package, file = node.module.split(".")
+                    self.assertEqual(package, PACKAGE.name)
+                    defined = ast.parse((PACKAGE / f"{file}.py").read_text()).body
+                    told = [getattr(row, "name", None) for row in defined]
+                    told += [row.targets[0].id for row in defined if isinstance(row, ast.Assign)]
+                    self.assertIn(name.name, told, (path, node.module))
+
+    def test_no_two_files_import_from_each_other(self):
+        imports = {path.stem: set() for path in FILES}
+        for path, node in nodes(ast.ImportFrom):
+            if node.module not in LIBRARY:
+                imports[path.stem].add(node.module.split(".")[1])
+        while imports:
+            free = {stem for stem in imports if not imports[stem] & set(imports)}
+            self.assertTrue(free, imports)
+            imports = {stem: imports[stem] for stem in imports if stem not in free}
+
+    def test_module_level_has_nothing_that_runs(self):
+        for path, tree in trees():
+            for at, row in enumerate(tree.body):
+                if at == 0:
+                    self.assertTrue(isinstance(row, ast.Expr) and isinstance(row.value, ast.Constant), path)
+                    continue
+                self.assertIsInstance(row, (ast.ImportFrom, ast.FunctionDef, ast.ClassDef, ast.Assign), path)
+                if isinstance(row, ast.Assign):
+                    ast.literal_eval(row.value)
+
+    def test_only_allowed_statements_and_signs(self):
+        for path, node in nodes(*BARRED_NODES):
+            self.fail((path, node))
+        for path, node in nodes(ast.Constant):
+            self.assertNotIsInstance(node.value, (float, complex), (path, node.lineno))
+            if isinstance(node.value, str):
+                self.assertNotIn("%", node.value, (path, node.lineno))
+        for path, node in nodes(ast.GeneratorExp, ast.Set):
+            self.fail((path, node.lineno))
+
+    def test_names(self):
+        for path, tree in trees():
+            for name in bound_names(tree):
+                self.assertRegex(name, r"^(_|_?[A-Za-z][A-Za-z0-9_]*|__[a-z]+__)$", path)
+                self.assertNotIn(name, dir(builtins), path)
+                self.assertNotIn(name, BARRED_NAMES, path)
+                self.assertFalse(name.startswith("_wall"), path)
+            bound = set(bound_names(tree))
+            bound |= {name.name for node in ast.walk(tree) if isinstance(node, ast.ImportFrom) for name in node.names}
+            for node in ast.walk(tree):
+                if isinstance(node, ast.Name) and isinstance(node.ctx, ast.Load):
+                    self.assertIn(node.id, bound | BUILTINS, (path, node.lineno))
+
+    def test_no_variable_has_the_name_of_an_import_or_a_class(self):
+        for path, tree in trees():
+            taken = {name.name for node in ast.walk(tree) if isinstance(node, ast.ImportFrom) for name in node.names}
+            taken |= {node.name for node in ast.walk(tree) if isinstance(node, ast.ClassDef)}
+            for node in ast.walk(tree):
+                if isinstance(node, ast.arg):
+                    self.assertNotIn(node.arg, taken, path)
+                elif isinstance(node, ast.Name) and isinstance(node.ctx, ast.Store):
+                    self.assertNotIn(node.id, taken, path)
+
+    def test_methods_of_builtin_values(self):
+        own = {node.name for _, node in nodes(ast.FunctionDef)}
+        for path, node in nodes(ast.Call):
+            if isinstance(node.func, ast.Attribute):
+                self.assertIn(node.func.attr, METHODS | own, (path, node.lineno))
+
+    def test_words_that_stand_nowhere(self):
+        for path in FILES:
+            for token in tokenize.generate_tokens(io.StringIO(path.read_text()).readline):
+                if token.type != tokenize.COMMENT and not token.string.startswith('"""'):
+                    self.assertFalse(BARRED_WORDS & set(re.findall(r"\w+", token.string)), (path, token.start))
+
+    def test_each_error_that_is_raised_is_made_on_the_spot(self):
+        for path, node in nodes(ast.Raise):
+            self.assertIsInstance(node.exc, ast.Call, (path, node.lineno))
+            self.assertIsInstance(node.exc.func, ast.Name, (path, node.lineno))
+
+
+if __name__ == "__main__":
+    unittest.main()
