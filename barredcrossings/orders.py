@@ -56,7 +56,40 @@ def all_behind(arrows, row):
     return behind
 
 
-def _ways_to(arrows, goal):
+def nearest_in(behind):
+    """The list of the pairs (near, far) with far behind near and none between, ascending.
+
+    behind is as all_behind tells it.
+    """
+    return sorted([
+        (near, far)
+        for near in behind for far in behind[near]
+        if not any([far in behind[between] for between in behind[near]])
+    ])
+
+
+def how_many_rows(arrows):
+    """How many lists of all members there are in which every arrow goes onward."""
+    places = {member: place for place, member in enumerate(arrows)}
+    needed = [0] * len(places)
+    for near in arrows:
+        for far in arrows[near]:
+            needed[places[far]] = needed[places[far]] | (1 << places[near])
+    # What can follow is the same for all beginnings with the same members, so
+    # for each set of members, told by bits, only the number of these is kept.
+    ways = {0: 1}
+    for _ in arrows:
+        longer = {}
+        for taken in ways:
+            for place, need in enumerate(needed):
+                more = taken | (1 << place)
+                if more != taken and (taken & need) == need:
+                    longer[more] = longer.get(more, 0) + ways[taken]
+        ways = longer
+    return sum(ways.values())
+
+
+def ways_to(arrows, goal):
     """For each member that leads to goal: by how few arrows, at least one."""
     steps = {}
     edge = [goal]
@@ -75,7 +108,7 @@ def _ways_to(arrows, goal):
 
 def _least_round_from(arrows, start):
     """The least of the shortest rounds that begin at start; None if none does."""
-    steps = _ways_to(arrows, start)
+    steps = ways_to(arrows, start)
     if start not in steps:
         return None
     members = [start]

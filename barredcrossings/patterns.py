@@ -5,7 +5,7 @@ other. A PATTERN is an ascending tuple of BONDS, a WISH one of PATTERNS.
 """
 
 from barredcrossings.errors import NoName, Unfit
-from barredcrossings.orders import all_behind, least_row
+from barredcrossings.orders import all_behind, least_row, nearest_in
 
 NAMES = ("a", "b", "c", "d", "e", "f", "g", "h")
 ENDS = ("s", "r")
@@ -99,6 +99,23 @@ def merged(pattern, one, other):
     return tuple(bonds)
 
 
+def bonds_between(names):
+    """The list of all BONDS between these names, ascending."""
+    return sorted([
+        (one, end, other, place)
+        for one in names for other in names if one != other
+        for end in ENDS for place in ENDS
+    ])
+
+
+def name_arrows(pattern):
+    """The arrows between names: one for each BOND, from its one to its other."""
+    arrows = {name: [] for name in names_of(pattern)}
+    for bond in pattern:
+        arrows[bond[0]].append(bond[2])
+    return arrows
+
+
 def end_arrows(pattern):
     """The arrows between ends of names: one for each BOND, and s to r."""
     arrows = {}
@@ -140,12 +157,10 @@ def follows(pattern, bond):
 
 def fewest_bonds(pattern):
     """The PATTERN with fewest BONDS from which the same BONDS follow."""
-    behind = ends_behind(pattern)
     # What leads by way of a third end follows from others. Nothing leads to
     # the rest but itself, so each PATTERN for this order must have it.
     return tuple([
-        bond for bond in closure(pattern)
-        if not any([bond[2:] in behind[between] for between in behind[bond[:2]]])
+        near + far for near, far in nearest_in(ends_behind(pattern)) if near[0] != far[0]
     ])
 
 

@@ -83,7 +83,7 @@ def house_of(run, letter, end):
     return houses[(letter, end)]
 
 
-def _ends_behind(run):
+def behind_in(run):
     """For each END of the RUN a dict that has all ENDS behind it."""
     arrows = _end_arrows(run)
     return all_behind(arrows, least_row(arrows))
@@ -92,13 +92,13 @@ def _ends_behind(run):
 def ahead(run, one, other):
     """Whether the END one is ahead of the END other."""
     _require_letters(run, [one[0], other[0]])
-    return tuple(other) in _ends_behind(run)[tuple(one)]
+    return tuple(other) in behind_in(run)[tuple(one)]
 
 
 def ends_between(run, letter):
     """The set of the ENDS behind the s of the letter and ahead of its r."""
     _require_letters(run, [letter])
-    behind = _ends_behind(run)
+    behind = behind_in(run)
     return tuple(sorted([
         end for end in behind[(letter, "s")] if (letter, "r") in behind[end]
     ]))
@@ -118,7 +118,7 @@ def is_time_row(run, thing):
 
 def overtaken(run):
     """The ascending list of the pairs (x, y) such that x is overtaken by y."""
-    behind = _ends_behind(run)
+    behind = behind_in(run)
     pairs = []
     for row in run:
         handed_over = [letter for letter, end in row if end == "r"]
@@ -139,7 +139,7 @@ def _letter_arrows(run):
 
     As s is ahead of r, that is so just if the s of x is ahead of the r of y.
     """
-    behind = _ends_behind(run)
+    behind = behind_in(run)
     letters = letters_in(run)
     return {
         near: [far for far in letters if far != near and (far, "r") in behind[(near, "s")]]

@@ -48,6 +48,93 @@ def following(pattern):
     ))
 
 
+def is_ring(row):
+    """Whether a tuple of BONDS is a RING, by the words of the document."""
+    if len(row) < 2 or row[0] != min(row):
+        return False
+    if len({bond[0] for bond in row}) < len(row):
+        return False
+    return all(row[at - 1][2] == row[at][0] for at in range(len(row)))
+
+
+def rings(pattern):
+    """All RINGS, out of all rows of BONDS."""
+    most = len({name for bond in pattern for name in (bond[0], bond[2])})
+    return sorted(
+        row for many in range(2, most + 1)
+        for row in itertools.permutations(pattern, many) if is_ring(row)
+    )
+
+
+def rings_by_names(pattern):
+    """All RINGS, out of all rows of names: quicker where there are more than 5."""
+    bonds = {}
+    for bond in pattern:
+        bonds.setdefault((bond[0], bond[2]), []).append(bond)
+    found = []
+    names = sorted({name for bond in pattern for name in (bond[0], bond[2])})
+    for many in range(2, len(names) + 1):
+        for row in itertools.permutations(names, many):
+            steps = [(row[at - 1], row[at]) for at in range(many)]
+            if row[0] == min(row) and all(step in bonds for step in steps):
+                for ring in itertools.product(*[bonds[step] for step in steps]):
+                    at = ring.index(min(ring))
+                    found.append(ring[at:] + ring[:at])
+    return sorted(found)
+
+
+def turning_names(ring):
+    return tuple(sorted(
+        ring[at][0] for at in range(len(ring)) if ring[at - 1][3] == "r" and ring[at][1] == "s"
+    ))
+
+
+def least_of(found):
+    """Of these RINGS those with the least number of turns, of them those with fewest BONDS."""
+    measure = {ring: (len(turning_names(ring)), len(ring)) for ring in found}
+    return [ring for ring in found if measure[ring] == min(measure.values())]
+
+
+def sort_of(pattern, found=None):
+    found = rings(pattern) if found is None else found
+    if not found:
+        return "never"
+    return ("itself", "marks", "asks")[min(2, min(len(turning_names(ring)) for ring in found))]
+
+
+def name_rows(pattern):
+    """All rows of all names in which one stands ahead of other for each BOND."""
+    names = sorted({name for bond in pattern for name in (bond[0], bond[2])})
+    return [
+        row for row in itertools.permutations(names)
+        if all(row.index(bond[0]) < row.index(bond[2]) for bond in pattern)
+    ]
+
+
+def end_rows(pattern):
+    """All rows of all ends of names in which each stands behind those told ahead of it."""
+    pairs = told_pairs(pattern)
+    ends = sorted({end for pair in pairs for end in pair})
+    return [
+        row for row in itertools.permutations(ends)
+        if not any((far, near) in pairs for near, far in itertools.combinations(row, 2))
+        and not any((end, end) in pairs for end in row)
+    ]
+
+
+def how_many_end_rows(pattern):
+    """How many such rows there are, one end after another."""
+    pairs = told_pairs(pattern)
+
+    def onward(left):
+        if not left:
+            return 1
+        free = [end for end in left if not any((other, end) in pairs for other in left)]
+        return sum(onward([other for other in left if other != end]) for end in free)
+
+    return onward(sorted({end for pair in pairs for end in pair}))
+
+
 def ahead_pairs(rows):
     """All pairs of ENDS of which the first is ahead of the second."""
     pairs = set()
@@ -105,6 +192,35 @@ def letter_rows(run):
     ]
 
 
+def is_one_by_one(run):
+    """Whether no letter would have to stand ahead of itself."""
+    pairs = {(near[0], far[0]) for near, far in ahead_pairs(run) if near[0] != far[0]}
+    return not any(near == far for near, far in pairs_by_way_of_others(pairs))
+
+
+def is_of_kind(run, kind):
+    if kind == "causal":
+        return not overtaken(run)
+    return kind == "any" or is_one_by_one(run)
+
+
+def holding(run, placed):
+    """All BONDS that hold if the names a, b and so on are these letters."""
+    pairs = ahead_pairs(run)
+    return tuple(
+        bond for bond in all_bonds(len(placed))
+        if ((placed[NAMES.index(bond[0])], bond[1]), (placed[NAMES.index(bond[2])], bond[3])) in pairs
+    )
+
+
+def is_placing(pattern, run, placed):
+    """Whether these letters, one for each name in their order, have all the BONDS."""
+    pairs = ahead_pairs(run)
+    names = sorted({name for bond in pattern for name in (bond[0], bond[2])})
+    at = dict(zip(names, placed))
+    return all(((at[one], end), (at[other], place)) in pairs for one, end, other, place in pattern)
+
+
 def crowns(run, many):
     """All crowns of so many letters, ascending."""
     pairs = ahead_pairs(run)
@@ -137,6 +253,18 @@ def some_run(dice, many, houses, labels=None):
         else:
             letter, far = under_way.pop(dice.randrange(len(under_way)))
             rows[far].append((letter, "r"))
+    return tuple(tuple(row) for row in rows)
+
+
+def some_calm_run(dice, many, houses):
+    """A RUN of so many letters that go one by one."""
+    rows = [[] for _ in range(houses)]
+    labels = list(range(many))
+    dice.shuffle(labels)
+    for letter in labels:
+        near, far = dice.sample(range(houses), 2)
+        rows[near].append((letter, "s"))
+        rows[far].append((letter, "r"))
     return tuple(tuple(row) for row in rows)
 
 

@@ -1,13 +1,34 @@
 """The patterns and runs of the document's examples, and others that many tests use."""
 
+import itertools
+import random
+
 from barredcrossings.errors import BadText, NoLetter, Unfit
-from tests.oracles import all_bonds
+from tests.oracles import NAMES, all_bonds
 
 ORDER = (("a", "s", "b", "s"), ("b", "r", "a", "r"))
 CROSSING = (("a", "s", "b", "r"), ("b", "s", "a", "r"))
 ANSWER = (("a", "r", "b", "s"),)
 CHAIN = (("a", "s", "b", "r"), ("b", "s", "c", "r"))
 STUCK = (("a", "s", "b", "s"), ("b", "s", "a", "s"))
+THREE = (("a", "s", "b", "r"), ("b", "s", "c", "r"), ("c", "s", "a", "r"))
+BOTH = (("a", "s", "b", "r"), ("a", "s", "b", "s"), ("b", "r", "a", "r"), ("b", "s", "a", "r"))
+
+# Its RING with fewest turns is not its shortest RING: d to g turn twice, a to c three times.
+LONG_AND_SHORT = tuple(sorted(THREE + (
+    ("d", "s", "e", "r"), ("e", "r", "f", "r"), ("f", "s", "g", "r"), ("g", "r", "d", "r"),
+)))
+
+# 16 BONDS over 8 names, in no RUN: two to each next name, and round.
+GREAT_ROUND = tuple(sorted(
+    (one, end, other, "s") for one, other in zip("abcdefgh", "bcdefgha") for end in "rs"
+))
+
+# 16 BONDS over 8 names that only asking letters keep out: each next one crosses the last one.
+GREAT_ASKS = tuple(sorted(
+    bond for one, other in zip("abcdefgh", "bcdefgha")
+    for bond in ((one, "s", other, "r"), (other, "s", one, "r"))
+))
 
 # 16 BONDS over 8 names: h is handed over ahead of where g is handed in, g ahead
 # of f, and so on; the other 9 follow from these 7.
@@ -22,6 +43,54 @@ RUSH = (((0, "s"), (1, "s")), ((1, "r"), (0, "r")))
 CALM = (((0, "s"),), ((0, "r"), (2, "s")), ((2, "r"), (1, "s")), ((1, "r"),))
 
 EVERY_BOND = all_bonds(8)
+
+
+def all_patterns(many):
+    """All PATTERNS between the first names."""
+    bonds = all_bonds(many)
+    for size in range(1, len(bonds) + 1):
+        yield from itertools.combinations(bonds, size)
+
+
+def some_patterns(seed, times):
+    """PATTERNS of up to 16 BONDS over 3 to 8 names, most of them in some RUN."""
+    dice = random.Random(seed)
+    for _ in range(times):
+        many = dice.randint(3, 8)
+        names = list(NAMES[:many])
+        places = dice.sample(range(99), 2 * many)
+        place = {}
+        for at, name in enumerate(names):
+            place[(name, "s")], place[(name, "r")] = sorted(places[2 * at:2 * at + 2])
+        bonds = [bond for bond in all_bonds(many) if place[bond[:2]] < place[bond[2:]]]
+        if dice.random() < 0.2:
+            bonds = list(all_bonds(many))
+        yield tuple(sorted(dice.sample(bonds, min(len(bonds), dice.randint(1, 16)))))
+
+
+def ring_pattern(names, turning, dice):
+    """A PATTERN that has one RING alone, through these names, which turns at those of turning."""
+    bonds = []
+    passing = [("s", "s"), ("s", "r"), ("r", "r")]
+    ways = {name: ("r", "s") if name in turning else dice.choice(passing) for name in names}
+    for one, other in zip(names, names[1:] + names[:1]):
+        bonds.append((one, ways[one][1], other, ways[other][0]))
+    return tuple(sorted(bonds))
+
+
+def small_patterns(many, most):
+    """All PATTERNS of at most so many BONDS between the first names."""
+    for size in range(1, most + 1):
+        yield from itertools.combinations(all_bonds(many), size)
+
+
+def free_patterns(seed, times, fewest, most, bonds=16):
+    """PATTERNS between so many of the NAMES, with BONDS drawn without any care."""
+    dice = random.Random(seed)
+    for _ in range(times):
+        names = sorted(dice.sample(NAMES, dice.randint(fewest, most)))
+        own = [bond for bond in EVERY_BOND if bond[0] in names and bond[2] in names]
+        yield tuple(sorted(dice.sample(own, min(len(own), dice.randint(1, bonds)))))
 
 
 def great_run():

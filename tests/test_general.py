@@ -1,13 +1,16 @@
-"""The general rules [2] and the interface [16], for all that patterns.py and runs.py have."""
+"""The general rules [2] and the interface [16], for all files that have landed."""
 
 import copy
 import inspect
 import unittest
 
-from barredcrossings import patterns, runs
+from barredcrossings import built, patterns, rings, runs, sorts
 from barredcrossings.errors import NoLetter, NoName, Unfit
 from tests.oracles import as_lists
-from tests.samples import ANSWER, CALM, CHAIN, CROSSING, GREAT, ORDER, RUSH, STUCK, SWAP, great_run
+from tests.samples import (
+    ANSWER, BOTH, CALM, CHAIN, CROSSING, GREAT, GREAT_ASKS, GREAT_ROUND, LONG_AND_SHORT, ORDER, RUSH, STUCK, SWAP,
+    THREE, great_run,
+)
 
 PARAMETERS = {
     patterns: {
@@ -21,7 +24,26 @@ PARAMETERS = {
         "overtaken": "run", "is_causal": "run", "is_one_by_one": "run", "kind_of": "run", "letter_row": "run",
         "is_letter_row": "run thing", "is_crown": "run thing", "crown": "run",
     },
+    rings: {
+        "ring_names": "ring", "turns": "ring", "turning_names": "ring", "is_ring": "pattern thing", "rings": "pattern",
+        "how_many_rings": "pattern many", "least_turns": "pattern", "least_ring": "pattern",
+        "is_least_ring": "pattern thing", "on_rings": "pattern",
+    },
+    sorts: {
+        "sort_of": "pattern", "is_dearer": "one other", "in_some": "pattern kind", "sorts_without": "pattern",
+        "loose_bonds": "pattern", "mending_bonds": "pattern sort", "core": "pattern", "core_size": "pattern",
+        "is_core": "pattern thing",
+    },
+    built: {
+        "end_order": "pattern", "nearest_pairs": "pattern", "name_row": "pattern", "is_name_row": "pattern thing",
+        "how_many_name_rows": "pattern", "how_many_orders": "pattern", "run_with": "pattern kind",
+        "is_run_with": "pattern kind thing",
+    },
 }
+
+PATTERNS = (ANSWER, ORDER, CROSSING, CHAIN, THREE, BOTH, LONG_AND_SHORT, GREAT, GREAT_ASKS)
+NO_RUN = (STUCK, GREAT_ROUND)
+KINDS = ("any", "causal", "one by one")
 
 # Calls with the kinds of values that come of them; thing is never a list here.
 CALLS = [
@@ -46,6 +68,39 @@ CALLS += [
     )
     for run in (SWAP, RUSH, CALM, great_run(), (), ((), ()))
 ]
+CALLS += [
+    (call, (pattern,))
+    for call in (
+        rings.least_turns, rings.least_ring, rings.on_rings, sorts.sort_of, sorts.sorts_without, sorts.loose_bonds,
+        sorts.core, sorts.core_size, built.name_row, built.how_many_name_rows,
+    )
+    for pattern in PATTERNS + NO_RUN
+]
+CALLS += [(call, (pattern,)) for call in (built.end_order, built.nearest_pairs) for pattern in PATTERNS]
+CALLS += [(call, (pattern,)) for call in (rings.rings, built.how_many_orders) for pattern in PATTERNS[:6] + (STUCK,)]
+CALLS += [
+    (call, (ring,))
+    for call in (rings.ring_names, rings.turns, rings.turning_names) for ring in (ORDER, THREE, STUCK)
+]
+CALLS += [(rings.how_many_rings, (BOTH, many)) for many in (0, 1, 2, -7, 10 ** 30)]
+CALLS += [(sorts.mending_bonds, (pattern, sort)) for pattern in (ANSWER, CROSSING, THREE) for sort in sorts.SORTS]
+CALLS += [
+    (call, (pattern, kind))
+    for call in (sorts.in_some, built.run_with) for pattern in PATTERNS + NO_RUN for kind in KINDS
+]
+CALLS += [
+    (sorts.is_dearer, ("asks", "marks")), (sorts.is_dearer, ("itself", "itself")),
+    (rings.is_ring, (BOTH, ORDER)), (rings.is_ring, (ORDER, ORDER[::-1])), (rings.is_ring, (ORDER, None)),
+    (rings.is_least_ring, (BOTH, ORDER)), (rings.is_least_ring, (BOTH, CROSSING)), (rings.is_least_ring, (ORDER, None)),
+    (sorts.is_core, (BOTH, ORDER)), (sorts.is_core, (BOTH, CROSSING)), (sorts.is_core, (BOTH, 0)),
+    (built.is_name_row, (ANSWER, ("a", "b"))), (built.is_name_row, (ANSWER, ("b", "a"))),
+    (built.is_name_row, (ANSWER, True)), (built.is_run_with, (ORDER, "any", RUSH)),
+    (built.is_run_with, (ORDER, "causal", RUSH)), (built.is_run_with, (ORDER, "one by one", "RUSH")),
+    (built.is_run_with, (ANSWER, "one by one", CALM)),
+]
+LISTING = {
+    runs.overtaken, rings.rings, sorts.sorts_without, sorts.mending_bonds, built.end_order, built.nearest_pairs,
+}
 
 RAISING = [
     (patterns.renamed, (ORDER, (("c", "a"),)), NoName), (patterns.renamed, (ORDER, (("a", "b"),)), Unfit),
@@ -54,6 +109,8 @@ RAISING = [
     (patterns.fewest_bonds, (STUCK,), Unfit), (patterns.same_runs, (ORDER, STUCK), Unfit),
     (runs.house_of, (RUSH, 2, "s"), NoLetter), (runs.ahead, (RUSH, (2, "s"), (3, "s")), NoLetter),
     (runs.ends_between, (RUSH, 2), NoLetter),
+    (built.end_order, (STUCK,), Unfit), (built.nearest_pairs, (STUCK,), Unfit),
+    (built.end_order, (GREAT_ROUND,), Unfit), (built.nearest_pairs, (GREAT_ROUND,), Unfit),
 ]
 
 
@@ -140,6 +197,9 @@ class Arguments(unittest.TestCase):
                 self.assertIs(call(thing), False)
             for call in (runs.is_time_row, runs.is_letter_row, runs.is_crown):
                 self.assertIs(call(as_lists(RUSH), thing), False)
+            for call in (rings.is_ring, rings.is_least_ring, sorts.is_core, built.is_name_row):
+                self.assertIs(call(as_lists(ORDER), thing), False)
+            self.assertIs(built.is_run_with(as_lists(ORDER), "any", thing), False)
             self.assertEqual(thing, kept)
 
     def test_a_list_is_no_tuple_for_thing_though_it_is_for_run(self):
@@ -152,6 +212,18 @@ class Arguments(unittest.TestCase):
         for run in (CALM, as_lists(CALM)):
             self.assertIs(runs.is_letter_row(run, (0, 2, 1)), True)
             self.assertIs(runs.is_letter_row(run, [0, 2, 1]), False)
+        for pattern in (ORDER, as_lists(ORDER)):
+            for call in (rings.is_ring, rings.is_least_ring, sorts.is_core):
+                self.assertIs(call(pattern, ORDER), True)
+                self.assertIs(call(pattern, as_lists(ORDER)), False)
+                self.assertIs(call(pattern, list(ORDER)), False)
+                self.assertIs(call(pattern, (ORDER[0], list(ORDER[1]))), False)
+            self.assertIs(built.is_run_with(pattern, "any", RUSH), True)
+            self.assertIs(built.is_run_with(pattern, "any", as_lists(RUSH)), False)
+            self.assertIs(built.is_run_with(pattern, "any", (RUSH[0], list(RUSH[1]))), False)
+        for pattern in (ANSWER, as_lists(ANSWER)):
+            self.assertIs(built.is_name_row(pattern, ("a", "b")), True)
+            self.assertIs(built.is_name_row(pattern, ["a", "b"]), False)
 
 
 class Results(unittest.TestCase):
@@ -162,23 +234,24 @@ class Results(unittest.TestCase):
             self.assertEqual(call(*handed_in(call, args)), first)
 
     def test_every_returned_list_is_new(self):
-        first = runs.overtaken(RUSH)
-        first.append("more")
-        self.assertEqual(runs.overtaken(RUSH), [(0, 1)])
-        first = runs.overtaken(CALM)
-        first.append("more")
-        self.assertEqual(runs.overtaken(CALM), [])
+        for call, args in CALLS:
+            if call in LISTING:
+                expected = call(*args)
+                for spoil in (list.clear, lambda found: found.append("more"), list.reverse):
+                    found = call(*args)
+                    spoil(found)
+                    self.assertEqual(call(*args), expected)
 
-    def test_only_overtaken_returns_a_list(self):
+    def test_only_what_tells_several_results_returns_a_list(self):
         for call, args in CALLS:
             found = call(*handed_in(call, args))
-            if call is runs.overtaken:
-                self.assertIs(type(found), list)
+            if call in LISTING:
+                self.assertIs(type(found), list, call)
                 found = tuple(found)
             self.assertTrue(has_no_list(found), call)
 
     def test_whether_is_told_by_true_and_false_themselves(self):
-        words = {patterns.follows, patterns.same_runs, runs.ahead}
+        words = {patterns.follows, patterns.same_runs, runs.ahead, sorts.is_dearer, sorts.in_some}
         for call, args in CALLS:
             if call in words or call.__name__.startswith("is_"):
                 self.assertIs(type(call(*args)), bool)
@@ -188,6 +261,17 @@ class Results(unittest.TestCase):
             for found in (patterns.closure(pattern), patterns.fewest_bonds(pattern), patterns.turned_about(pattern)):
                 self.assertIs(patterns.is_pattern(found), True)
                 self.assertEqual(patterns.names_of(found), patterns.names_of(pattern))
+        for pattern in PATTERNS + NO_RUN:
+            ring = rings.least_ring(pattern)
+            if ring is not None:
+                self.assertEqual(rings.turns(ring), rings.least_turns(pattern))
+                self.assertEqual(rings.on_rings(tuple(sorted(ring))), tuple(sorted(ring)))
+            self.assertEqual(sorts.core(sorts.core(pattern)), sorts.core(pattern))
+            for kind in KINDS:
+                run = built.run_with(pattern, kind)
+                if run is not None:
+                    self.assertIs(runs.is_run(run), True)
+                    self.assertIs(built.is_run_with(pattern, kind, run), True)
 
 
 if __name__ == "__main__":

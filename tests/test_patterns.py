@@ -10,30 +10,9 @@ from barredcrossings.patterns import (
     turned_about,
 )
 from tests import oracles
-from tests.samples import ANSWER, CHAIN, CROSSING, EVERY_BOND, GREAT, ORDER, STUCK, odd_things
-
-
-def all_patterns(many):
-    """All PATTERNS between the first names."""
-    bonds = oracles.all_bonds(many)
-    for size in range(1, len(bonds) + 1):
-        yield from itertools.combinations(bonds, size)
-
-
-def some_patterns(seed, times):
-    """PATTERNS of up to 16 BONDS over 3 to 8 names, most of them in some RUN."""
-    dice = random.Random(seed)
-    for _ in range(times):
-        many = dice.randint(3, 8)
-        names = list(oracles.NAMES[:many])
-        places = dice.sample(range(99), 2 * many)
-        place = {}
-        for at, name in enumerate(names):
-            place[(name, "s")], place[(name, "r")] = sorted(places[2 * at:2 * at + 2])
-        bonds = [bond for bond in oracles.all_bonds(many) if place[bond[:2]] < place[bond[2:]]]
-        if dice.random() < 0.2:
-            bonds = list(oracles.all_bonds(many))
-        yield tuple(sorted(dice.sample(bonds, min(len(bonds), dice.randint(1, 16)))))
+from tests.samples import (
+    ANSWER, CHAIN, CROSSING, EVERY_BOND, GREAT, ORDER, STUCK, all_patterns, odd_things, some_patterns,
+)
 
 
 class Raises(unittest.TestCase):
