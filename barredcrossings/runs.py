@@ -65,7 +65,7 @@ def ends_in(run):
     return tuple(sorted([(letter, end) for row in run for letter, end in row]))
 
 
-def _require_letters(run, letters):
+def require_letters(run, letters):
     """Raise NoLetter for the first of the letters that the RUN has not."""
     own = letters_in(run)
     for letter in letters:
@@ -75,7 +75,7 @@ def _require_letters(run, letters):
 
 def house_of(run, letter, end):
     """The number of the house at which this END of the letter stands."""
-    _require_letters(run, [letter])
+    require_letters(run, [letter])
     houses = {
         (own, side): house
         for house, row in enumerate(run) for own, side in row
@@ -91,13 +91,13 @@ def behind_in(run):
 
 def ahead(run, one, other):
     """Whether the END one is ahead of the END other."""
-    _require_letters(run, [one[0], other[0]])
+    require_letters(run, [one[0], other[0]])
     return tuple(other) in behind_in(run)[tuple(one)]
 
 
 def ends_between(run, letter):
     """The set of the ENDS behind the s of the letter and ahead of its r."""
-    _require_letters(run, [letter])
+    require_letters(run, [letter])
     behind = behind_in(run)
     return tuple(sorted([
         end for end in behind[(letter, "s")] if (letter, "r") in behind[end]

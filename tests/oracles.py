@@ -289,3 +289,99 @@ def as_lists(value):
     if isinstance(value, tuple):
         return [as_lists(part) for part in value]
     return value
+
+
+def names_of(pattern):
+    return sorted({name for bond in pattern for name in (bond[0], bond[2])})
+
+
+def with_names(pattern, names):
+    """The BONDS with these names in the place of its own, in their order."""
+    new = dict(zip(names_of(pattern), names))
+    return {(new[one], end, new[other], place) for one, end, other, place in pattern}
+
+
+def coverings(one, other):
+    """All rows of unlike names of other for which all BONDS of one follow from other."""
+    follow = set(following(other))
+    return [
+        row for row in itertools.permutations(names_of(other), len(names_of(one)))
+        if with_names(one, row) <= follow
+    ]
+
+
+def placings(pattern, run):
+    """All placings, out of all rows of unlike letters."""
+    pairs = ahead_pairs(run)
+    found = []
+    for row in itertools.permutations(letters(run), len(names_of(pattern))):
+        at = dict(zip(names_of(pattern), row))
+        if all(((at[one], end), (at[other], place)) in pairs for one, end, other, place in pattern):
+            found.append(row)
+    return found
+
+
+def is_kept(run, wish):
+    return not any(placings(pattern, run) for pattern in wish)
+
+
+def without(run, letter):
+    return tuple(tuple(end for end in row if end[0] != letter) for row in run)
+
+
+def guilty(run, wish):
+    if is_kept(run, wish):
+        return ()
+    return tuple(letter for letter in letters(run) if is_kept(without(run, letter), wish))
+
+
+def house_of(run, end):
+    return [house for house, row in enumerate(run) if end in row][0]
+
+
+def known(run, end):
+    pairs = ahead_pairs(run)
+    return tuple(letter for letter in letters(run) if ((letter, "s"), end) in pairs)
+
+
+def due(run, letter):
+    return tuple(
+        x for x in known(run, (letter, "s")) if house_of(run, (x, "r")) == house_of(run, (letter, "r"))
+    )
+
+
+def some_time_row(run, dice):
+    """Some row of all ENDS in which each stands behind those ahead of it, as the dice fall."""
+    left, row = [list(own) for own in run], []
+    while any(left):
+        free = [
+            own for own in left if own and (own[0][1] == "s" or (own[0][0], "s") in row)
+        ]
+        row.append(dice.choice(free).pop(0))
+    return row
+
+
+def played(run, dice):
+    """What comes if houses hold letters back: rows, later arrivals of each letter, most that wait."""
+    rows, arrived = [[] for _ in run], [[] for _ in run]
+    later, most = {}, 0
+    for letter, end in some_time_row(run, dice):
+        house = house_of(run, (letter, end))
+        if end == "s":
+            rows[house].append((letter, "s"))
+            continue
+        arrived[house].append(letter)
+        while True:
+            pairs = ahead_pairs(rows)
+            waiting = [x for x in arrived[house] if (x, "r") not in rows[house]]
+            free = [
+                x for x in waiting if not any(
+                    ((y, "s"), (x, "s")) in pairs and house_of(run, (y, "r")) == house and (y, "r") not in rows[house]
+                    for y in letters(run))
+            ]
+            if not free:
+                break
+            rows[house].append((free[0], "r"))
+            later[free[0]] = len(arrived[house]) - arrived[house].index(free[0]) - 1
+        most = max(most, len(waiting))
+    return tuple(tuple(row) for row in rows), later, most

@@ -4,7 +4,7 @@ import itertools
 import random
 
 from barredcrossings.errors import BadText, NoLetter, Unfit
-from tests.oracles import NAMES, all_bonds
+from tests.oracles import NAMES, all_bonds, some_run
 
 ORDER = (("a", "s", "b", "s"), ("b", "r", "a", "r"))
 CROSSING = (("a", "s", "b", "r"), ("b", "s", "a", "r"))
@@ -91,6 +91,15 @@ def free_patterns(seed, times, fewest, most, bonds=16):
         names = sorted(dice.sample(NAMES, dice.randint(fewest, most)))
         own = [bond for bond in EVERY_BOND if bond[0] in names and bond[2] in names]
         yield tuple(sorted(dice.sample(own, min(len(own), dice.randint(1, bonds)))))
+
+
+def some_runs(seed, times, most=6):
+    """RUNS of up to so many letters, of all kinds, with numbers here and there."""
+    dice = random.Random(seed)
+    for _ in range(times):
+        many = dice.randint(0, most)
+        labels = dice.sample([*range(9), 50, 10 ** 30], many)
+        yield some_run(dice, many, dice.randint(2, 4), labels)
 
 
 def great_run():

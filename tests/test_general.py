@@ -4,7 +4,7 @@ import copy
 import inspect
 import unittest
 
-from barredcrossings import built, patterns, rings, runs, sorts
+from barredcrossings import built, found, marks, patterns, rings, runs, sorts, wishes
 from barredcrossings.errors import NoLetter, NoName, Unfit
 from tests.oracles import as_lists
 from tests.samples import (
@@ -39,11 +39,31 @@ PARAMETERS = {
         "how_many_name_rows": "pattern", "how_many_orders": "pattern", "run_with": "pattern kind",
         "is_run_with": "pattern kind thing",
     },
+    wishes: {
+        "sort_of_wish": "wish", "dearest": "wish", "cheapest_part": "wish sort", "kept_by": "wish kind",
+        "breaking_run": "wish kind", "covering": "one other", "covers": "one other", "is_covering": "one other thing",
+        "needless": "wish", "thinned": "wish",
+    },
+    found: {
+        "placings": "pattern run", "how_many_placings": "pattern run", "is_in": "pattern run",
+        "first_placing": "pattern run", "is_placing": "pattern run thing", "keeps": "run wish", "broken": "run wish",
+        "pattern_of": "run letters", "cut": "run letter", "guilty": "run wish",
+    },
+    marks: {
+        "known_letters": "run end", "matrix": "run end", "due_ahead": "run letter", "too_late": "run letter",
+        "handed": "run", "held": "run", "waits": "run", "most_held": "run",
+    },
 }
 
 PATTERNS = (ANSWER, ORDER, CROSSING, CHAIN, THREE, BOTH, LONG_AND_SHORT, GREAT, GREAT_ASKS)
 NO_RUN = (STUCK, GREAT_ROUND)
 KINDS = ("any", "causal", "one by one")
+WISHES = (
+    (), (ORDER,), (CROSSING, ORDER), tuple(sorted([STUCK, ORDER, CROSSING, ANSWER])),
+    tuple(sorted([GREAT_ROUND, GREAT_ASKS, BOTH, CHAIN])),
+)
+SMALL_WISHES = WISHES[:4]
+RUNS = (SWAP, RUSH, CALM, (), ((), ()))
 
 # Calls with the kinds of values that come of them; thing is never a list here.
 CALLS = [
@@ -98,8 +118,40 @@ CALLS += [
     (built.is_run_with, (ORDER, "causal", RUSH)), (built.is_run_with, (ORDER, "one by one", "RUSH")),
     (built.is_run_with, (ANSWER, "one by one", CALM)),
 ]
+CALLS += [(call, (wish,)) for call in (wishes.sort_of_wish, wishes.dearest) for wish in WISHES]
+CALLS += [(call, (wish,)) for call in (wishes.needless, wishes.thinned) for wish in SMALL_WISHES]
+CALLS += [(wishes.cheapest_part, (wish, sort)) for wish in WISHES for sort in sorts.SORTS]
+CALLS += [(call, (wish, kind)) for call in (wishes.kept_by, wishes.breaking_run) for wish in WISHES for kind in KINDS]
+CALLS += [
+    (call, (one, other))
+    for call in (wishes.covers, wishes.covering) for one in (ORDER, CROSSING, STUCK) for other in (ORDER, THREE, BOTH)
+]
+CALLS += [
+    (call, (pattern, run))
+    for call in (found.placings, found.how_many_placings, found.is_in, found.first_placing)
+    for pattern in (ANSWER, ORDER, CROSSING, STUCK) for run in RUNS
+]
+CALLS += [
+    (call, (run, wish)) for call in (found.keeps, found.broken, found.guilty) for wish in SMALL_WISHES for run in RUNS
+]
+CALLS += [(found.pattern_of, (run, letters)) for run in (SWAP, CALM) for letters in ((0, 1), (2, 1, 0))]
+CALLS += [(found.cut, (run, letter)) for run in (SWAP, CALM) for letter in (0, 2)]
+CALLS += [(call, (SWAP, end)) for call in (marks.known_letters, marks.matrix) for end in ((0, "s"), (1, "r"))]
+CALLS += [
+    (call, (run, letter)) for call in (marks.due_ahead, marks.too_late) for run in (RUSH, SWAP) for letter in (0, 1)
+]
+CALLS += [
+    (call, (run,))
+    for call in (marks.handed, marks.held, marks.waits, marks.most_held) for run in RUNS + (great_run(),)
+]
+CALLS += [
+    (wishes.is_covering, (CROSSING, ORDER, ("b", "a"))), (wishes.is_covering, (CROSSING, ORDER, ("a", "a"))),
+    (wishes.is_covering, (CROSSING, ORDER, None)), (found.is_placing, (ORDER, RUSH, (0, 1))),
+    (found.is_placing, (ORDER, RUSH, (1, 0))), (found.is_placing, (ORDER, RUSH, "01")),
+]
 LISTING = {
     runs.overtaken, rings.rings, sorts.sorts_without, sorts.mending_bonds, built.end_order, built.nearest_pairs,
+    found.placings, marks.waits,
 }
 
 RAISING = [
@@ -111,6 +163,11 @@ RAISING = [
     (runs.ends_between, (RUSH, 2), NoLetter),
     (built.end_order, (STUCK,), Unfit), (built.nearest_pairs, (STUCK,), Unfit),
     (built.end_order, (GREAT_ROUND,), Unfit), (built.nearest_pairs, (GREAT_ROUND,), Unfit),
+    (wishes.covers, (ORDER, STUCK), Unfit), (wishes.covering, (ORDER, STUCK), Unfit),
+    (wishes.is_covering, (ORDER, STUCK, None), Unfit), (found.pattern_of, (SWAP, (0, 9)), NoLetter),
+    (found.cut, (SWAP, 9), NoLetter), (marks.known_letters, (RUSH, (2, "s")), NoLetter),
+    (marks.matrix, (RUSH, (2, "r")), NoLetter), (marks.due_ahead, (RUSH, 2), NoLetter),
+    (marks.too_late, ((), 0), NoLetter),
 ]
 
 
@@ -200,6 +257,8 @@ class Arguments(unittest.TestCase):
             for call in (rings.is_ring, rings.is_least_ring, sorts.is_core, built.is_name_row):
                 self.assertIs(call(as_lists(ORDER), thing), False)
             self.assertIs(built.is_run_with(as_lists(ORDER), "any", thing), False)
+            self.assertIs(wishes.is_covering(as_lists(CROSSING), as_lists(ORDER), thing), False)
+            self.assertIs(found.is_placing(as_lists(ORDER), as_lists(RUSH), thing), False)
             self.assertEqual(thing, kept)
 
     def test_a_list_is_no_tuple_for_thing_though_it_is_for_run(self):
@@ -224,6 +283,10 @@ class Arguments(unittest.TestCase):
         for pattern in (ANSWER, as_lists(ANSWER)):
             self.assertIs(built.is_name_row(pattern, ("a", "b")), True)
             self.assertIs(built.is_name_row(pattern, ["a", "b"]), False)
+            self.assertIs(wishes.is_covering(pattern, pattern, ("a", "b")), True)
+            self.assertIs(wishes.is_covering(pattern, pattern, ["a", "b"]), False)
+            self.assertIs(found.is_placing(pattern, as_lists(CALM), (0, 1)), True)
+            self.assertIs(found.is_placing(pattern, as_lists(CALM), [0, 1]), False)
 
 
 class Results(unittest.TestCase):
@@ -237,30 +300,33 @@ class Results(unittest.TestCase):
         for call, args in CALLS:
             if call in LISTING:
                 expected = call(*args)
-                for spoil in (list.clear, lambda found: found.append("more"), list.reverse):
-                    found = call(*args)
-                    spoil(found)
+                for spoil in (list.clear, lambda told: told.append("more"), list.reverse):
+                    told = call(*args)
+                    spoil(told)
                     self.assertEqual(call(*args), expected)
 
     def test_only_what_tells_several_results_returns_a_list(self):
         for call, args in CALLS:
-            found = call(*handed_in(call, args))
+            told = call(*handed_in(call, args))
             if call in LISTING:
-                self.assertIs(type(found), list, call)
-                found = tuple(found)
-            self.assertTrue(has_no_list(found), call)
+                self.assertIs(type(told), list, call)
+                told = tuple(told)
+            self.assertTrue(has_no_list(told), call)
 
     def test_whether_is_told_by_true_and_false_themselves(self):
-        words = {patterns.follows, patterns.same_runs, runs.ahead, sorts.is_dearer, sorts.in_some}
+        words = {
+            patterns.follows, patterns.same_runs, runs.ahead, sorts.is_dearer, sorts.in_some, wishes.kept_by,
+            wishes.covers, found.keeps,
+        }
         for call, args in CALLS:
             if call in words or call.__name__.startswith("is_"):
                 self.assertIs(type(call(*args)), bool)
 
     def test_what_is_returned_can_be_handed_in_again(self):
         for pattern in (ORDER, CHAIN, ANSWER):
-            for found in (patterns.closure(pattern), patterns.fewest_bonds(pattern), patterns.turned_about(pattern)):
-                self.assertIs(patterns.is_pattern(found), True)
-                self.assertEqual(patterns.names_of(found), patterns.names_of(pattern))
+            for told in (patterns.closure(pattern), patterns.fewest_bonds(pattern), patterns.turned_about(pattern)):
+                self.assertIs(patterns.is_pattern(told), True)
+                self.assertEqual(patterns.names_of(told), patterns.names_of(pattern))
         for pattern in PATTERNS + NO_RUN:
             ring = rings.least_ring(pattern)
             if ring is not None:
