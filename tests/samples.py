@@ -4,6 +4,7 @@ import itertools
 import random
 
 from barredcrossings.errors import BadText, NoLetter, Unfit
+from barredcrossings.talk import Talk
 from tests.oracles import NAMES, all_bonds, some_run
 
 ORDER = (("a", "s", "b", "s"), ("b", "r", "a", "r"))
@@ -128,7 +129,11 @@ def nested(value, levels):
 
 def odd_things():
     """Values that are no BOND, no PATTERN, no WISH, no RUN and no row of anything."""
+    talk = Talk(2, (ORDER,))
+    talk.send(0, 0, 1)
     return [
+        talk, Talk(2, ()), (talk,), (talk, talk), ((talk,),), ((talk, "s"),), (("a", "s", "b", talk),),
+        ((talk, "s", "b", "r"),), (0, talk), ("a", talk), (((0, "s"), (1, talk)),), nested(talk, 11), [talk],
         None, True, False, 0, 1, -1, 7, 10 ** 40, "", "a", "s", "asbr", "0s",
         [], [()], [[]], [("a", "s", "b", "r")], Unfit(), BadText(), NoLetter(0),
         (None,), (True,), (0,), ("",), ("a",), ([],), ((None,),), (Unfit(),), ((NoLetter(1),),),

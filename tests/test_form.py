@@ -59,6 +59,8 @@ def bound_names(tree):
             yield node.arg
         elif isinstance(node, ast.Name) and isinstance(node.ctx, ast.Store):
             yield node.id
+        elif isinstance(node, ast.ExceptHandler) and node.name:
+            yield node.name
 
 
 class Form(unittest.TestCase):
@@ -114,13 +116,44 @@ class Form(unittest.TestCase):
 
     def test_module_level_has_nothing_that_runs(self):
         for path, tree in trees():
+            defined = set()
             for at, row in enumerate(tree.body):
+                defined.add(getattr(row, "name", None))
                 if at == 0:
                     self.assertTrue(isinstance(row, ast.Expr) and isinstance(row.value, ast.Constant), path)
                     continue
                 self.assertIsInstance(row, (ast.ImportFrom, ast.FunctionDef, ast.ClassDef, ast.Assign), path)
                 if isinstance(row, ast.Assign):
-                    ast.literal_eval(row.value)
+                    self.check_plain(row.value, defined)
+
+    def check_plain(self, value, defined):
+        """Only literals, and names of functions that stand above."""
+        for node in ast.walk(value):
+            self.assertIsInstance(
+                node, (ast.Constant, ast.Tuple, ast.List, ast.Dict, ast.Name, ast.Load, ast.UnaryOp, ast.USub))
+            if isinstance(node, ast.Name):
+                self.assertIn(node.id, defined)
+
+    def test_a_table_holds_no_list_or_dict_and_is_only_read(self):
+        for path, tree in trees():
+            tables = {
+                row.targets[0].id for row in tree.body
+                if isinstance(row, ast.Assign) and isinstance(row.value, (ast.Dict, ast.List))
+            }
+            for row in tree.body:
+                if isinstance(row, ast.Assign):
+                    for inner in ast.walk(row.value):
+                        self.assertTrue(inner is row.value or not isinstance(inner, (ast.Dict, ast.List)), path)
+            read = 0
+            for node in ast.walk(tree):
+                if isinstance(node, ast.Subscript) and isinstance(node.value, ast.Name) and node.value.id in tables:
+                    self.assertIsInstance(node.ctx, ast.Load, (path, node.lineno))
+                    read += 1
+                if isinstance(node, ast.Attribute) and isinstance(node.value, ast.Name) and node.value.id in tables:
+                    self.assertEqual(node.attr, "get", (path, node.lineno))
+                    read += 1
+            named = [node for node in ast.walk(tree) if isinstance(node, ast.Name) and node.id in tables]
+            self.assertEqual(len(named), read + len(tables), path)
 
     def test_only_allowed_statements_and_signs(self):
         for path, node in nodes(*BARRED_NODES):

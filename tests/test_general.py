@@ -4,8 +4,9 @@ import copy
 import inspect
 import unittest
 
-from barredcrossings import built, found, marks, patterns, rings, runs, sorts, wishes
-from barredcrossings.errors import NoLetter, NoName, Unfit
+from barredcrossings import built, counted, desk, found, marks, patterns, rings, runs, sorts, texts, wishes
+from barredcrossings.errors import BadLine, BadText, NoHouse, NoLetter, NoName, NothingDone, Twice, Unfit
+from barredcrossings.talk import Talk
 from tests.oracles import as_lists
 from tests.samples import (
     ANSWER, BOTH, CALM, CHAIN, CROSSING, GREAT, GREAT_ASKS, GREAT_ROUND, LONG_AND_SHORT, ORDER, RUSH, STUCK, SWAP,
@@ -53,6 +54,21 @@ PARAMETERS = {
         "known_letters": "run end", "matrix": "run end", "due_ahead": "run letter", "too_late": "run letter",
         "handed": "run", "held": "run", "waits": "run", "most_held": "run",
     },
+    counted: {
+        "all_bonds": "many", "how_many_patterns": "many bonds", "pattern_at": "many bonds number",
+        "number_of_pattern": "many pattern", "patterns_of_sort": "many bonds sort", "sorts_counted": "many bonds",
+        "least_renamed": "pattern", "are_alike": "one other", "unlike_patterns": "many bonds",
+    },
+    texts: {
+        "pattern_text": "pattern", "read_pattern": "text", "wish_text": "wish", "read_wish": "text", "run_text": "run",
+        "read_run": "text", "sheet_text": "sheet", "read_sheet": "text",
+    },
+    desk: {"replies": "text"},
+}
+METHODS = {
+    "__init__": "houses wish", "__len__": "", "__eq__": "other", "__iter__": "", "send": "letter house to",
+    "hand": "letter", "undo": "", "twin": "", "wish": "", "rows": "", "on_way": "", "goal": "letter", "run": "",
+    "kind": "", "broken": "", "broken_by": "letter", "safe": "", "overtakes": "letter", "causal": "",
 }
 
 PATTERNS = (ANSWER, ORDER, CROSSING, CHAIN, THREE, BOTH, LONG_AND_SHORT, GREAT, GREAT_ASKS)
@@ -149,7 +165,25 @@ CALLS += [
     (wishes.is_covering, (CROSSING, ORDER, None)), (found.is_placing, (ORDER, RUSH, (0, 1))),
     (found.is_placing, (ORDER, RUSH, (1, 0))), (found.is_placing, (ORDER, RUSH, "01")),
 ]
+CALLS += [(counted.all_bonds, (many,)) for many in (2, 5)]
+CALLS += [(counted.how_many_patterns, (many, bonds)) for many, bonds in ((2, 2), (2, 9), (8, 16))]
+CALLS += [(counted.pattern_at, args) for args in ((2, 2, 16), (2, 2, -1), (8, 16, 10 ** 20))]
+CALLS += [(counted.number_of_pattern, (many, pattern)) for many in (2, 8) for pattern in (ORDER, CHAIN, GREAT)]
+CALLS += [(counted.sorts_counted, (2, 2)), (counted.unlike_patterns, (2, 2)), (counted.unlike_patterns, (2, 9))]
+CALLS += [(counted.patterns_of_sort, (2, 2, sort)) for sort in sorts.SORTS]
+CALLS += [(counted.least_renamed, (pattern,)) for pattern in (ORDER, CHAIN, THREE)]
+CALLS += [(counted.are_alike, args) for args in ((ORDER, CROSSING), (CHAIN, CHAIN))]
+CALLS += [(texts.pattern_text, (pattern,)) for pattern in PATTERNS]
+CALLS += [(texts.wish_text, (wish,)) for wish in WISHES]
+CALLS += [(texts.run_text, (run,)) for run in (SWAP, ((),))]
+CALLS += [(texts.sheet_text, ((("cross", CROSSING), ("order", ORDER)),))]
+CALLS += [
+    (texts.read_pattern, ("a.s<b.s b.r<a.r",)), (texts.read_wish, ("-",)), (texts.read_wish, ("a.s<b.r; a.s<b.s",)),
+    (texts.read_run, ("0s / - / 0r",)), (texts.read_sheet, ("x a.r<b.s\ny a.r<b.s",)),
+    (desk.replies, ("2\n-\nrows\nsend 0 0 1\nundo\nundo",)), (desk.replies, ("2\n-",)),
+]
 LISTING = {
+    counted.patterns_of_sort, counted.unlike_patterns, desk.replies,
     runs.overtaken, rings.rings, sorts.sorts_without, sorts.mending_bonds, built.end_order, built.nearest_pairs,
     found.placings, marks.waits,
 }
@@ -168,6 +202,8 @@ RAISING = [
     (found.cut, (SWAP, 9), NoLetter), (marks.known_letters, (RUSH, (2, "s")), NoLetter),
     (marks.matrix, (RUSH, (2, "r")), NoLetter), (marks.due_ahead, (RUSH, 2), NoLetter),
     (marks.too_late, ((), 0), NoLetter),
+    (texts.read_pattern, ("",), BadText), (texts.read_wish, ("",), BadText), (texts.read_run, ("",), BadText),
+    (texts.read_sheet, ("",), BadLine), (desk.replies, ("",), BadLine),
 ]
 
 
@@ -201,6 +237,16 @@ class TheInterface(unittest.TestCase):
         for module, told in PARAMETERS.items():
             for word in told:
                 self.assertEqual(getattr(module, word).__module__, module.__name__)
+        self.assertEqual(Talk.__module__, "barredcrossings.talk")
+
+    def test_each_method_is_defined_in_the_class_itself(self):
+        self.assertEqual(Talk.__mro__, (Talk, object))
+        for word, names in METHODS.items():
+            parameters = inspect.signature(vars(Talk)[word]).parameters
+            self.assertEqual(" ".join(parameters), " ".join(["self", *names.split()]), word)
+            for parameter in parameters.values():
+                self.assertIs(parameter.default, parameter.empty)
+                self.assertEqual(parameter.kind, parameter.POSITIONAL_OR_KEYWORD)
 
 
 class Arguments(unittest.TestCase):
@@ -289,6 +335,65 @@ class Arguments(unittest.TestCase):
             self.assertIs(found.is_placing(pattern, as_lists(CALM), [0, 1]), False)
 
 
+class Objects(unittest.TestCase):
+    def test_a_talk_by_position_and_by_name(self):
+        wish = (CROSSING, ORDER)
+        one, other = Talk(3, wish), Talk(wish=as_lists(wish), houses=3)
+        self.assertIs(one == other, True)
+        for letter, house, to in ((0, 0, 1), (1, 2, 1), (2, 0, 1)):
+            one.send(letter, house, to)
+            other.send(to=to, letter=letter, house=house)
+        self.assertIs(one == other, True)
+        for call, expected in (("goal", 1), ("broken_by", ()), ("overtakes", (0,))):
+            self.assertEqual(getattr(one, call)(2), expected)
+            self.assertEqual(getattr(other, call)(letter=2), expected)
+        one.hand(2)
+        other.hand(letter=2)
+        self.assertIs(one == other, True)
+
+    def test_errors_by_name(self):
+        talk = Talk(houses=2, wish=())
+        talk.send(letter=0, house=0, to=1)
+        for call, given, error in (
+            (talk.send, {"letter": 0, "house": 0, "to": 1}, Twice),
+            (talk.send, {"letter": 1, "house": 0, "to": 2}, NoHouse),
+            (talk.send, {"letter": 1, "house": 0, "to": 0}, Unfit), (talk.hand, {"letter": 1}, NoLetter),
+            (talk.goal, {"letter": 1}, NoLetter), (talk.broken_by, {"letter": 1}, NoLetter),
+            (talk.overtakes, {"letter": 1}, NoLetter), (Talk(2, []).undo, {}, NothingDone),
+        ):
+            with self.assertRaises(error):
+                call(**given)
+            self.assertEqual((len(talk), talk.rows()), (1, (((0, "s"),), ())))
+
+    def test_what_is_asked_of_a_talk_changes_nothing(self):
+        talk = Talk(3, (ORDER,))
+        for letter, house, to in ((0, 0, 1), (1, 0, 1), (2, 1, 2)):
+            talk.send(letter, house, to)
+        talk.hand(1)
+        kept = talk.twin()
+        for word, names in METHODS.items():
+            if word not in ("__init__", "__iter__", "__eq__", "send", "hand", "undo"):
+                args = (2,) if names else ()
+                first = getattr(talk, word)(*args)
+                self.assertEqual(getattr(talk, word)(*args), first)
+                self.assertIs(talk == kept, True)
+                self.assertEqual(len(talk), len(kept))
+
+    def test_a_talk_is_no_thing_that_is_asked_for(self):
+        talk = Talk(2, (ORDER,))
+        for call in (patterns.is_bond, patterns.is_pattern, patterns.is_wish, runs.is_run):
+            for thing in (talk, (talk,), ((talk,),), (((0, "s"), talk),), [talk]):
+                self.assertIs(call(thing), False)
+        for thing in (talk, (talk,), (talk, talk), ((talk, talk),), (0, talk), ("a", talk), ((0, "s"), (talk, "r"))):
+            for call in (runs.is_time_row, runs.is_letter_row, runs.is_crown):
+                self.assertIs(call(RUSH, thing), False)
+            for call in (rings.is_ring, rings.is_least_ring, sorts.is_core, built.is_name_row):
+                self.assertIs(call(ORDER, thing), False)
+            self.assertIs(built.is_run_with(ORDER, "any", thing), False)
+            self.assertIs(wishes.is_covering(ORDER, ORDER, thing), False)
+            self.assertIs(found.is_placing(ORDER, RUSH, thing), False)
+
+
 class Results(unittest.TestCase):
     def test_the_same_call_once_more_is_the_same(self):
         for call, args in CALLS:
@@ -316,7 +421,7 @@ class Results(unittest.TestCase):
     def test_whether_is_told_by_true_and_false_themselves(self):
         words = {
             patterns.follows, patterns.same_runs, runs.ahead, sorts.is_dearer, sorts.in_some, wishes.kept_by,
-            wishes.covers, found.keeps,
+            wishes.covers, found.keeps, counted.are_alike,
         }
         for call, args in CALLS:
             if call in words or call.__name__.startswith("is_"):

@@ -358,7 +358,8 @@ class Following(Raises):
     def test_rounds_by_way_of_s_and_r(self):
         for pattern in (
             STUCK, (("a", "r", "b", "s"), ("b", "r", "a", "s")), (("a", "r", "b", "s"), ("b", "s", "a", "s")),
-            (("a", "r", "b", "r"), ("b", "r", "a", "s")), (("a", "s", "b", "r"), ("b", "r", "c", "s"), ("c", "r", "a", "s")),
+            (("a", "r", "b", "r"), ("b", "r", "a", "s")),
+            (("a", "s", "b", "r"), ("b", "r", "c", "s"), ("c", "r", "a", "s")),
             (("a", "r", "b", "s"), ("b", "r", "c", "s"), ("c", "s", "d", "s"), ("d", "s", "a", "r")),
         ):
             with self.assertRaises(Unfit):
