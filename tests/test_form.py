@@ -200,6 +200,54 @@ class Form(unittest.TestCase):
                 if token.type != tokenize.COMMENT and not token.string.startswith('"""'):
                     self.assertFalse(BARRED_WORDS & set(re.findall(r"\w+", token.string)), (path, token.start))
 
+    def test_classes(self):
+        allowed = {"__init__", "__eq__", "__len__", "__iter__"}
+        for path, node in nodes(ast.ClassDef):
+            for row in node.body:
+                if isinstance(row, ast.Expr):
+                    self.assertIs(row, node.body[0], (path, row.lineno))
+                    continue
+                self.assertIsInstance(row, ast.FunctionDef, (path, row.lineno))
+                self.assertEqual(row.args.args[0].arg, "self", (path, row.name))
+                if row.name.startswith("__"):
+                    self.assertIn(row.name, allowed, (path, row.name))
+                else:
+                    self.assertNotIn(row.name, BUILTINS | METHODS, (path, row.name))
+        names = [node.name for _, node in nodes(ast.ClassDef)]
+        self.assertEqual(len(names), len(set(names)))
+
+    def test_attributes_are_assigned_by_some_class_and_are_no_methods(self):
+        assigned, methods = set(), set()
+        for _, node in nodes(ast.ClassDef):
+            own = {row.name for row in node.body if isinstance(row, ast.FunctionDef)}
+            told = {
+                inner.attr for inner in ast.walk(node)
+                if isinstance(inner, ast.Attribute) and isinstance(inner.ctx, ast.Store)
+            }
+            self.assertFalse(own & told, node.name)
+            methods |= own
+            assigned |= told
+        for path, node in nodes(ast.Attribute):
+            self.assertIn(node.attr, assigned | methods | METHODS, (path, node.lineno))
+            if isinstance(node.ctx, ast.Store):
+                self.assertIsInstance(node.value, ast.Name, (path, node.lineno))
+
+    def test_handlers_catch_own_errors_alone(self):
+        errors = ast.parse((PACKAGE / "errors.py").read_text())
+        own = {node.name for node in ast.walk(errors) if isinstance(node, ast.ClassDef)}
+        for path, node in nodes(ast.Try):
+            names = [handler.name for handler in node.handlers if handler.name]
+            self.assertEqual(len(names), len(set(names)), (path, node.lineno))
+            for handler in node.handlers:
+                self.assertIsInstance(handler.type, ast.Name, (path, node.lineno))
+                self.assertIn(handler.type.id, own, (path, node.lineno))
+
+    def test_no_combinations_beside_a_class_that_has_a_length(self):
+        for path, node in nodes(ast.ImportFrom):
+            if node.module == "itertools":
+                for name in node.names:
+                    self.assertNotIn(name.name, ("product", "combinations", "permutations"), path)
+
     def test_each_error_that_is_raised_is_made_on_the_spot(self):
         for path, node in nodes(ast.Raise):
             self.assertIsInstance(node.exc, ast.Call, (path, node.lineno))
